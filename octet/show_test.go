@@ -7,9 +7,21 @@ import (
 	"unicode/utf8"
 )
 
+// shown is a text, and how Show has it.
+type shown struct{ in, want string }
+
+func checkShown(t *testing.T, cases []shown) {
+	t.Helper()
+	for _, c := range cases {
+		if got := Show(c.in); got != c.want {
+			t.Errorf("Show(%q) is %s, not %s", c.in, got, c.want)
+		}
+	}
+}
+
 // P1.1: Show of what a reader may meet.
 func TestShow(t *testing.T) {
-	for _, c := range []struct{ in, want string }{
+	checkShown(t, []shown{
 		{"", ""},
 		{"plain text ~", "plain text ~"},
 		{"\n", `\012`},
@@ -21,16 +33,12 @@ func TestShow(t *testing.T) {
 		{"<U+00E9>", "<U+00E9>"},
 		{"\u00e9\u20ac", "<U+00E9><U+20AC>"},
 		{"x\u00e9y", "x<U+00E9>y"},
-	} {
-		if got := Show(c.in); got != c.want {
-			t.Errorf("Show(%q) is %s, not %s", c.in, got, c.want)
-		}
-	}
+	})
 }
 
 // P1.1: Show at the edges of runes: those below 160 byte by byte, those from there on by their number.
 func TestShowAtEdgesOfRunes(t *testing.T) {
-	for _, c := range []struct{ in, want string }{
+	checkShown(t, []shown{
 		{"\u0080", `\302\200`},
 		{"\u0085", `\302\205`},
 		{"\u009f", `\302\237`},
@@ -42,16 +50,12 @@ func TestShowAtEdgesOfRunes(t *testing.T) {
 		{"\U00010000", "<U+10000>"},
 		{"\U0001f600", "<U+1F600>"},
 		{"\U0010ffff", "<U+10FFFF>"},
-	} {
-		if got := Show(c.in); got != c.want {
-			t.Errorf("Show(%q) is %s, not %s", c.in, got, c.want)
-		}
-	}
+	})
 }
 
 // P1.1: Show of bytes that are no right encoding: each stands for itself.
 func TestShowOfNoRightEncoding(t *testing.T) {
-	for _, c := range []struct{ in, want string }{
+	checkShown(t, []shown{
 		{"\x80", `\200`},
 		{"\xff\xfe", `\377\376`},
 		{"\xc3", `\303`},
@@ -71,11 +75,7 @@ func TestShowOfNoRightEncoding(t *testing.T) {
 		{"\xf4\x90\x80\x80", `\364\220\200\200`},
 		{"\xf0\x9f\x98", `\360\237\230`},
 		{"\xf0\x9f\"\\", `\360\237\"\\`},
-	} {
-		if got := Show(c.in); got != c.want {
-			t.Errorf("Show(%q) is %s, not %s", c.in, got, c.want)
-		}
-	}
+	})
 }
 
 // firstRune gives how many bytes the rune at the beginning of s has; 0, if none is rightly encoded there.
