@@ -5,38 +5,14 @@ import (
 	"math/big"
 	"strings"
 	"testing"
+
+	"tedder/sample"
 )
 
 const (
 	smallLetters = "abcdefghijklmnopqrstuvwxyz"
 	greatLetters = "ABCDEFGHIJKLMNOPQRSTUVWXYZ"
 )
-
-// allBytes gives a text of every byte, rising.
-func allBytes() string {
-	var b []byte
-	for c := range 256 {
-		b = append(b, byte(c))
-	}
-	return string(b)
-}
-
-// textsOf gives all texts of at most size bytes out of alphabet.
-func textsOf(alphabet string, size int) []string {
-	all := []string{""}
-	last := all
-	for range size {
-		var next []string
-		for _, s := range last {
-			for i := range len(alphabet) {
-				next = append(next, s+alphabet[i:i+1])
-			}
-		}
-		all = append(all, next...)
-		last = next
-	}
-	return all
-}
 
 // P1.1: Upper and Lower change letters alone.
 func TestUpperAndLower(t *testing.T) {
@@ -62,15 +38,15 @@ func TestUpperAndLower(t *testing.T) {
 
 // P1.1: Upper and Lower keep each byte that is no letter, by itself and in a text of all bytes.
 func TestUpperAndLowerOfEachByte(t *testing.T) {
-	upper, lower := []byte(allBytes()), []byte(allBytes())
+	upper, lower := []byte(sample.AllBytes()), []byte(sample.AllBytes())
 	for i := range 26 {
 		upper[smallLetters[i]] = greatLetters[i]
 		lower[greatLetters[i]] = smallLetters[i]
 	}
-	if got := Upper(allBytes()); got != string(upper) {
+	if got := Upper(sample.AllBytes()); got != string(upper) {
 		t.Errorf("Upper of all bytes is %q", got)
 	}
-	if got := Lower(allBytes()); got != string(lower) {
+	if got := Lower(sample.AllBytes()); got != string(lower) {
 		t.Errorf("Lower of all bytes is %q", got)
 	}
 	for c := range 256 {
@@ -127,8 +103,8 @@ func plainIndex(s, t string) int {
 
 // P1.1: Index of all small texts is what asking each place tells.
 func TestIndexOfSmallTexts(t *testing.T) {
-	for _, s := range textsOf("ab\xc3", 5) {
-		for _, part := range textsOf("ab\xc3", 3) {
+	for _, s := range sample.Texts("ab\xc3", 5) {
+		for _, part := range sample.Texts("ab\xc3", 3) {
 			if got, want := Index(s, part), plainIndex(s, part); got != want {
 				t.Errorf("Index(%q, %q) is %d, not %d", s, part, got, want)
 			}
@@ -218,7 +194,7 @@ func TestCutWithoutABound(t *testing.T) {
 
 // P0: each call ends and none panics at long texts and texts of all bytes, and answers the same again.
 func TestCallsEnd(t *testing.T) {
-	for _, s := range []string{"", allBytes(), strings.Repeat("\xf0\x9f\x98", 20000), strings.Repeat("a\u00e9\"", 20000)} {
+	for _, s := range []string{"", sample.AllBytes(), strings.Repeat("\xf0\x9f\x98", 20000), strings.Repeat("a\u00e9\"", 20000)} {
 		for _, part := range []string{"", s, s + "x", "\xff"} {
 			if Index(s, part) != Index(s, part) {
 				t.Error("Index answers two things")

@@ -5,6 +5,8 @@ import (
 	"strings"
 	"testing"
 	"unicode/utf8"
+
+	"tedder/sample"
 )
 
 // shown is a text, and how Show has it.
@@ -113,7 +115,7 @@ func plainShow(s string) string {
 // P1.1: Show of each byte, each pair of bytes, and each rune.
 func TestShowOfEachByteAndRune(t *testing.T) {
 	var texts []string
-	texts = append(texts, textsOf(allBytes(), 2)...)
+	texts = append(texts, sample.Texts(sample.AllBytes(), 2)...)
 	for r := range rune(utf8.MaxRune + 1) {
 		texts = append(texts, string(r))
 	}
@@ -126,7 +128,7 @@ func TestShowOfEachByteAndRune(t *testing.T) {
 
 // hardTexts gives texts of bytes that begin, go on and break encodings, and of those that Show writes itself, but of no byte 60.
 func hardTexts() []string {
-	return textsOf("\"\\03U+>n\x00\n\x7f\x80\x85\xa0\xbd\xbf\xc2\xe2\xed\xef\xf0", 4)
+	return sample.Texts("\"\\03U+>n\x00\n\x7f\x80\x85\xa0\xbd\xbf\xc2\xe2\xed\xef\xf0", 4)
 }
 
 // P1.1: Show of texts in which encodings are broken off.
@@ -158,7 +160,7 @@ func tellApart(t *testing.T, texts []string) {
 
 // P1.2: what is shown is plain, and unlike texts without a byte 60 are shown unlike.
 func TestShownApart(t *testing.T) {
-	tellApart(t, textsOf(strings.ReplaceAll(allBytes(), "<", ""), 2))
+	tellApart(t, sample.Texts(strings.ReplaceAll(sample.AllBytes(), "<", ""), 2))
 	tellApart(t, hardTexts())
 	var runes []string
 	for r := range rune(utf8.MaxRune + 1) {
