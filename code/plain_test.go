@@ -397,15 +397,15 @@ func checkDone(t *testing.T, s string, ways []uint64) bool {
 
 // P13.1: what is compiled of a program is its code: it is sound, and does, in the same order, with the same values, what the tree says, whichever ways are gone.
 func TestPrograms(t *testing.T) {
-	m := maker{bits: sample.Bits(4000000)}
+	m := sample.Maker{Bits: sample.Bits(4000000)}
 	programs := 0
-	for len(m.bits) > 20000 {
-		s := m.program()
+	for len(m.Bits) > 20000 {
+		s := m.Program()
 		for range 3 {
-			if checkDone(t, s, m.bits[:most+1]) {
+			if checkDone(t, s, m.Bits[:most+1]) {
 				programs++
 			}
-			m.bits = m.bits[most:]
+			m.Bits = m.Bits[most:]
 		}
 	}
 	if programs < 1000 {

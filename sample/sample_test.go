@@ -3,6 +3,9 @@ package sample
 import (
 	"slices"
 	"testing"
+
+	"tedder/names"
+	"tedder/syntax"
 )
 
 func TestTexts(t *testing.T) {
@@ -37,5 +40,24 @@ func TestBits(t *testing.T) {
 	slices.Sort(l)
 	if len(slices.Compact(l)) != 1000 {
 		t.Error("one number stands there twice")
+	}
+}
+
+func TestPrograms(t *testing.T) {
+	one, other := Maker{Bits: Bits(400000)}, Maker{Bits: Bits(400000)}
+	seen := map[string]bool{}
+	for len(one.Bits) > 20000 {
+		s := one.Program()
+		if s != other.Program() {
+			t.Fatal("two rows")
+		}
+		seen[s] = true
+		items, ok := syntax.Parse(s)
+		if _, right := names.Resolve(items); !ok || !right {
+			t.Errorf("%q is no program", s)
+		}
+	}
+	if len(seen) < 100 {
+		t.Errorf("%d programs", len(seen))
 	}
 }
